@@ -1,0 +1,22 @@
+"""The examples of README.md."""
+
+import doctest
+import pathlib
+import unittest
+
+README = pathlib.Path(__file__).resolve().parent.parent / "README.md"
+
+
+class Readme(unittest.TestCase):
+    def test_examples(self):
+        # A fence ends an example as an empty row does.
+        text = README.read_text(encoding="utf-8").replace("```", "")
+        examples = doctest.DocTestParser().get_doctest(text, {}, "README.md", str(README), 0)
+        self.assertGreater(len(examples.examples), 0)
+        told = []
+        result = doctest.DocTestRunner(verbose=False).run(examples, out=told.append)
+        self.assertEqual(result.failed, 0, "".join(told))
+
+
+if __name__ == "__main__":
+    unittest.main()

@@ -1,0 +1,1 @@
+"""Whose line is whose in a woven log."""
