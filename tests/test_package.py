@@ -10,6 +10,12 @@ INTERFACE = {
     "machines": {"Machine": ("size", "arrows", "ends", "signs", "step", "writes", "__eq__")},
     "rows": {"rows_count": (), "row_at": (), "shortest_row": (), "row_apart": ()},
     "bands": {"Band": ("names", "barred", "shown", "machine", "signs", "showing", "__eq__")},
+    "logs": dict.fromkeys(
+        ("is_log", "count", "giving_at", "number_of", "owners", "sure_lines", "web", "least_told"), ()),
+    "doubts": dict.fromkeys(
+        ("first_doubt", "is_sure", "doubtful_signs", "open_for", "open_ring", "least_lots", "told_apart"), ()),
+    "pieces": dict.fromkeys(("is_piece", "piece_owners", "least_mend", "is_mend"), ()),
+    "crews": dict.fromkeys(("fewest_writers", "crew", "is_crew", "crews_count"), ()),
 }
 
 
