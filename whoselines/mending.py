@@ -28,11 +28,12 @@ class Mending:
                     return self._steps_to(node)
             nodes = self._kept_on(self._gone_wrong(nodes))
 
-    def _come(self, nodes, node, before, step):
-        """Put a node behind some nodes unless a mend came there already."""
-        if node not in self._came:
-            self._came[node] = (before, step)
-            nodes.append(node)
+    def _is_new(self, node, before, step):
+        """Tell whether no mend came to a node yet; keep how this one does."""
+        if node in self._came:
+            return False
+        self._came[node] = (before, step)
+        return True
 
     def _kept_on(self, nodes):
         """Return some nodes and those that are come to from them by keep alone."""
@@ -43,7 +44,8 @@ class Mending:
             at, number = before
             if at < len(self._log):
                 for name, behind in self._moves[number].get(self._log[at], ()):
-                    self._come(found, (at + 1, behind), before, ("keep", name))
+                    if self._is_new((at + 1, behind), before, ("keep", name)):
+                        found.append((at + 1, behind))
             place += 1
         return found
 
@@ -52,10 +54,11 @@ class Mending:
         found = []
         for before in nodes:
             at, number = before
-            if at < len(self._log):
-                self._come(found, (at + 1, number), before, ("foreign",))
+            if at < len(self._log) and self._is_new((at + 1, number), before, ("foreign",)):
+                found.append((at + 1, number))
             for behind, step in self._lost[number].items():
-                self._come(found, (at, behind), before, step)
+                if self._is_new((at, behind), before, step):
+                    found.append((at, behind))
         return found
 
     def _steps_to(self, node):
