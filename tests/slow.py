@@ -152,3 +152,73 @@ def common(one, two):
         for at, other in enumerate(two):
             ahead, best[at + 1] = best[at + 1], max(best[at], best[at + 1], ahead + 1 if item == other else 0)
     return best[-1]
+
+
+def line_steps(band, standing):
+    """All (entry, name, standing behind) of the lines that may come next."""
+    found = []
+    for sign in band.signs():
+        for name in band.names():
+            after = step(band, standing, sign, name)
+            if after is not None:
+                found.append(((sign, name if sign in band.shown() else None), name, after))
+    return found
+
+
+class Pairs:
+    """Where one entry leads the pairs of the standings that a band reaches, looked up standing by standing."""
+
+    def __init__(self, band):
+        self.band = band
+        self.reached = reached_from(band, beginning(band))
+        self.alive = {standing for standing in self.reached if is_alive(band, standing)}
+        self.steps = {standing: line_steps(band, standing) for standing in self.reached}
+        # All pairs to which two unlike writers with one entry lead from one standing.
+        self.partings = {
+            (one[2], two[2]) for steps in self.steps.values() for one in steps for two in steps
+            if one[0] == two[0] and one[1] != two[1]
+        }
+        self.every = [(one, two) for one in self.reached for two in self.reached]
+
+    def led_on(self, pair):
+        """All pairs to which one entry leads a pair."""
+        return {
+            (one[2], two[2]) for one in self.steps[pair[0]] for two in self.steps[pair[1]] if one[0] == two[0]
+        }
+
+    def parted(self):
+        """All pairs that are reached together and parted."""
+        left = list(self.partings)
+        found = set()
+        while left:
+            pair = left.pop()
+            if pair not in found:
+                found.add(pair)
+                left += self.led_on(pair)
+        return found
+
+    def is_alive(self, pair):
+        return pair[0] in self.alive and pair[1] in self.alive
+
+    def is_final(self, pair):
+        return all(at_ends(self.band, standing) for standing in pair)
+
+
+def parted_by_trial(band, most):
+    """All pairs to which two givings that differ of some list of at most so many entries lead."""
+    found = set()
+    for length in range(most + 1):
+        for log in lists(band, length):
+            ways = [(names, behind(band, log, names)) for names in itertools.product(band.names(), repeat=length)]
+            ways = [way for way in ways if way[1] is not None]
+            found |= {(one[1], two[1]) for one in ways for two in ways if one[0] != two[0]}
+    return found
+
+
+def place(standing):
+    """What orders standings."""
+    return standing[0], standing[1] or ""
+
+
+def places(pair):
+    return place(pair[0]), place(pair[1])

@@ -55,11 +55,18 @@ def bound_names(node):
     return []
 
 
+def is_property(node):
+    """Whether a definition has just the decorator property, and just itself as its parameter."""
+    if not isinstance(node, ast.FunctionDef) or [ast.unparse(one) for one in node.decorator_list] != ["property"]:
+        return False
+    return ast.unparse(node.args) == "self"
+
+
 class Language(unittest.TestCase):
     def test_statements(self):
         for file, node in nodes():
             self.assertNotIsInstance(node, BARRED_NODES, f"{file} {getattr(node, 'lineno', 0)}")
-            if isinstance(node, (ast.FunctionDef, ast.ClassDef)):
+            if isinstance(node, (ast.FunctionDef, ast.ClassDef)) and not is_property(node):
                 self.assertEqual(node.decorator_list, [], node.name)
             if isinstance(node, ast.Constant):
                 self.assertNotIsInstance(node.value, (float, complex))
@@ -83,7 +90,7 @@ class Language(unittest.TestCase):
                 self.assertNotIn(name, known, f"{file} {name}")
                 self.assertNotIn(name, NOT_USED, f"{file} {name}")
                 if name.startswith("__"):
-                    self.assertIn(name, ("__init__", "__eq__"))
+                    self.assertIn(name, ("__init__", "__eq__", "__len__"))
 
     def test_methods(self):
         own = defined(ast.FunctionDef)
@@ -94,8 +101,26 @@ class Language(unittest.TestCase):
             if isinstance(node, ast.Attribute):
                 self.assertIn(node.attr, METHODS | own | stored, f"{file} {node.lineno}")
                 self.assertNotIn(node.attr, NOT_USED)
+                # The package has a class with a method add, so no set takes members by one.
+                self.assertNotEqual(node.attr, "add", f"{file} {node.lineno}")
         for name in stored:
             self.assertNotIn(name, own, "no name is a method and an attribute")
+
+    def test_properties(self):
+        named = [node.name for _, node in nodes() if isinstance(node, ast.FunctionDef) and not is_property(node)]
+        for file, node in nodes():
+            if is_property(node):
+                self.assertNotIn(node.name, named, f"{file} {node.name}")
+                self.assertNotIn(node.name, METHODS)
+                # What is read changes nothing: a property is one line that returns an attribute, or a copy of one.
+                self.assertEqual([type(one) for one in node.body[1:]], [ast.Return])
+                self.assertRegex(ast.unparse(node.body[1]), "^return (self[.]_[a-z]+|list[(]self[.]_[a-z]+[)])$")
+
+    def test_len(self):
+        for file, node in nodes():
+            if isinstance(node, ast.FunctionDef) and node.name == "__len__":
+                self.assertRegex(ast.unparse(node.body[-1]), "^return len[(]", file)
+                self.assertEqual(len(node.body), 1)
 
     def test_lists_not_generators(self):
         # The package has a class with __eq__.

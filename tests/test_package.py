@@ -16,6 +16,13 @@ INTERFACE = {
         ("first_doubt", "is_sure", "doubtful_signs", "open_for", "open_ring", "least_lots", "told_apart"), ()),
     "pieces": dict.fromkeys(("is_piece", "piece_owners", "least_mend", "is_mend"), ()),
     "crews": dict.fromkeys(("fewest_writers", "crew", "is_crew", "crews_count"), ()),
+    "papers": dict.fromkeys(("paper", "open_paper", "shows_sure", "shows_open"), ()),
+    "live": {"Live": (
+        "add", "add_all", "tell", "undo", "owners", "count", "is_log", "sure", "next_signs", "__len__", "band", "entries",
+    )},
+    "texts": dict.fromkeys(
+        ("machine_text", "read_machine", "band_text", "read_band", "log_text", "read_log"), ()),
+    "desks": {"Desk": ("order",)},
 }
 
 

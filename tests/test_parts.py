@@ -13,9 +13,9 @@ from whoselines.bands import Band
 from whoselines.doubts import told_apart
 from whoselines.hits import hitting, indexes, least_hitting
 from whoselines.machines import Machine
-from whoselines.paths import longest_walks, shortest_walk, spread
+from whoselines.paths import led_to, longest_walks, shortest_walk, spread
 from whoselines.twins import Twins
-from whoselines.weaves import leading_on, log_weave, merged, trimmed, weave_of
+from whoselines.weaves import ascending, leading_on, log_weave, merged, standing_key, trimmed, weave_of
 
 LINKS = {0: [1, 2], 1: [3], 2: [3, 4], 3: [5], 4: [5], 5: []}
 LOOP = Machine(1, ((0, "a", 0),), (0,))
@@ -30,6 +30,11 @@ class Paths(unittest.TestCase):
         self.assertEqual(list(spread(LINKS, [2])), [2, 3, 4, 5])
         self.assertEqual(list(spread(LINKS, {4: True, 1: True})), [4, 1, 5, 3])
         self.assertEqual(spread(LINKS, []), {})
+
+    def test_led_to(self):
+        self.assertEqual(list(led_to(lambda node: [node // 2, node // 3], [7])), [7, 3, 2, 1, 0])
+        self.assertEqual(led_to(nexts_of(LINKS), [5]), {5: True})
+        self.assertEqual(led_to(nexts_of(LINKS), []), {})
 
     def test_shortest_walk(self):
         self.assertEqual(shortest_walk(nexts_of(LINKS), [0], lambda node: node == 5), ["01", "13", "35"])
@@ -110,6 +115,23 @@ class Weaves(unittest.TestCase):
             self.assertLessEqual(len(least.moves), len(alive.moves))
             self.assertEqual(len(merged(least).moves), len(least.moves))
             self.assertEqual(len(log_weave(band).moves) > 0, slow.is_alive(band, slow.beginning(band)))
+
+    def test_ascending(self):
+        for band in some_bands(20):
+            weave = weave_of(band)
+            other = ascending(weave)
+            self.assertEqual(other.standings, sorted(weave.standings, key=slow.place))
+            self.assertEqual(other.standings[0], slow.beginning(band))
+            for number, standing in enumerate(other.standings):
+                old = weave.standings.index(standing)
+                self.assertEqual(number in other.finals, old in weave.finals)
+                self.assertEqual(
+                    [(entry, name, other.standings[behind])
+                     for entry, lines in other.moves[number].items() for name, behind in lines],
+                    [(entry, name, weave.standings[behind])
+                     for entry, lines in weave.moves[old].items() for name, behind in lines])
+        self.assertEqual(ascending(trimmed(weave_of(Band((("ann", Machine(1)),))))).standings, [])
+        self.assertLess(standing_key(((0, 1), None)), standing_key(((0, 1), "a")))
 
     def test_last_names_count_where_they_bar(self):
         writers = (("ann", LOOP), ("bob", LOOP))

@@ -5,7 +5,7 @@ from whoselines.errors import NoGiving, NoNumber, TooLong
 from whoselines.hits import hitting, indexes
 from whoselines.kinds import is_integer, is_word
 from whoselines.places import owners_on, walks
-from whoselines.weaves import weave_of
+from whoselines.weaves import standing_key, weave_of
 
 LONGEST_TOLD = 12
 
@@ -111,18 +111,12 @@ def sure_lines(band, log):
     return [index for index, names in enumerate(owners(band, log)) if len(names) == 1]
 
 
-def _standing_key(standing):
-    """Return what orders standings: no last name ahead of all names."""
-    states, last = standing
-    return (states, "" if last is None else last)
-
-
 def web(band, log):
     """Return, for each place between lines, the ascending list of the standings there of all right givings."""
     check_log(band, log)
     weave = weave_of(band)
     return [
-        sorted([weave.standings[number] for number in kept], key=_standing_key)
+        sorted([weave.standings[number] for number in kept], key=standing_key)
         for kept in _right_walks(weave, log)
     ]
 

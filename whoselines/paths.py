@@ -1,19 +1,26 @@
 """Walks over nodes: which nodes are led to, the shortest walk, the longest one."""
 
 
-def spread(links, starts):
-    """Return a dict of the nodes to which links lead from some nodes, these among them, nearer ones ahead."""
+def led_to(nexts, starts):
+    """Return a dict of the nodes that are led to from some nodes, these among them, nearer ones ahead.
+
+    nexts tells of a node the nodes behind it.
+    """
     found = {node: True for node in starts}
     queue = list(found)
     at = 0
     while at < len(queue):
-        node = queue[at]
-        for after in links[node]:
+        for after in nexts(queue[at]):
             if after not in found:
                 found[after] = True
                 queue.append(after)
         at += 1
     return found
+
+
+def spread(links, starts):
+    """Return what led_to does, where links has, for each node, those behind it."""
+    return led_to(lambda node: links[node], starts)
 
 
 def _way_to(came, starts, goal):

@@ -95,6 +95,18 @@ def trimmed(weave):
     return _renumbered(weave, {old: new for new, old in enumerate(kept)}, kept)
 
 
+def standing_key(standing):
+    """Return what orders standings: no last name ahead of all names."""
+    states, last = standing
+    return (states, "" if last is None else last)
+
+
+def ascending(weave):
+    """Return the weave with its standings in their order, in which that of the beginning is the first, too."""
+    kept = sorted(range(len(weave.standings)), key=lambda number: standing_key(weave.standings[number]))
+    return _renumbered(weave, {old: new for new, old in enumerate(kept)}, kept)
+
+
 def _numbered(keys):
     """Return a number for each key, the same for equal ones, in the order in which they first stand."""
     numbers = {}
