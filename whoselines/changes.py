@@ -3,8 +3,8 @@
 from whoselines.bands import Band
 from whoselines.boards import band_on, check_names_on, log_on, machine_on, with_band, with_line, with_machine
 from whoselines.entries import is_entry
-from whoselines.errors import NoArrow, NoBarred, NoEnds, NoEntry, NoShown, NoState
-from whoselines.machines import MOST_ARROWS, Machine
+from whoselines.errors import NoEntry, NoShown, NoState
+from whoselines.machines import Machine
 from whoselines.texts import entry_in
 
 
@@ -25,10 +25,8 @@ def _put_arrow(board, words):
     machine = machine_on(board, name)
     state = _state_of(machine, state_word)
     target = _state_of(machine, target_word)
-    arrows = machine.arrows()
-    if machine.step(state, sign) is not None or len(arrows) >= MOST_ARROWS:
-        raise NoArrow(len(arrows))
-    more = Machine(machine.size(), arrows + ((state, sign, target),), machine.ends())
+    # An arrow that cannot be taken raises NoArrow here: its index is the number of those ahead of it.
+    more = Machine(machine.size(), machine.arrows() + ((state, sign, target),), machine.ends())
     return with_machine(board, name, more), f"arrows {len(more.arrows())}"
 
 
@@ -36,8 +34,7 @@ def _put_end(board, words):
     name, state_word = words
     machine = machine_on(board, name)
     state = _state_of(machine, state_word)
-    if state in machine.ends():
-        raise NoEnds("this state is an end already")
+    # A state that is an end already raises NoEnds here.
     more = Machine(machine.size(), machine.arrows(), machine.ends() + (state,))
     return with_machine(board, name, more), f"ends {len(more.ends())}"
 
@@ -50,11 +47,9 @@ def _put_band(board, words):
 def _bar(board, words):
     band = band_on(board)
     check_names_on(board, words)
-    pair = tuple(words)
-    if pair in band.barred():
-        raise NoBarred("this pair is barred already")
     writers = tuple([(name, band.machine(name)) for name in band.names()])
-    more = Band(writers, band.barred() + (pair,), band.shown())
+    # A pair that is barred already raises NoBarred here.
+    more = Band(writers, band.barred() + (tuple(words),), band.shown())
     return with_band(board, more), f"barred {len(more.barred())}"
 
 
